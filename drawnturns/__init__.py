@@ -1,0 +1,1 @@
+"""Drawnturns: games in which it is drawn who moves next."""

@@ -1,0 +1,11 @@
+"""The bounds that the document names."""
+
+MAX_CELLS = 10
+MAX_TREE = 5
+MAX_NUMBER = 1000000
+MAX_WORTH = 1000000000000
+MAX_PARTS = 200
+MAX_DEEP = 8
+MAX_MIXED = 6
+MAX_SIDE = 12
+MAX_EDITS = 100

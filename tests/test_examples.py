@@ -1,0 +1,22 @@
+"""Each row of the document's examples, by its parts; names that were set stay set."""
+
+import unittest
+from pathlib import Path
+
+from checks import Checks, rows_of, run_rows
+
+FOLDER = Path(__file__).parent
+
+
+class TestExamples(Checks, unittest.TestCase):
+    def run_file(self, name, least_rows):
+        text = (FOLDER / name).read_text(encoding="ascii")
+        self.assertGreaterEqual(len(rows_of(text)), least_rows)
+        run_rows(self, text)
+
+    def test_standings_and_positions(self):
+        self.run_file("examples_a.txt", 18)
+
+
+if __name__ == "__main__":
+    unittest.main()
