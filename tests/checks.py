@@ -34,14 +34,6 @@ def fields_of(error):
     return (type(error), tuple(getattr(error, field) for field in FIELDS[name]))
 
 
-def outcome_of(call, *given, **named):
-    """What a call returns, or the error of the package that it raises."""
-    try:
-        return ("returns", call(*given, **named))
-    except errors.TurnError as error:
-        return ("raises",) + fields_of(error)
-
-
 def nested(deep, inner=()):
     """A tuple in a tuple, so many deep."""
     value = inner

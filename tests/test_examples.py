@@ -17,6 +17,12 @@ class TestExamples(Checks, unittest.TestCase):
     def test_standings_and_positions(self):
         self.run_file("examples_a.txt", 18)
 
+    def test_scores(self):
+        self.run_file("examples_b.txt", 28)
+
+    def test_triangles_and_hex_boards(self):
+        self.run_file("examples_g.txt", 9)
+
 
 if __name__ == "__main__":
     unittest.main()

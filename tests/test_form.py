@@ -24,6 +24,21 @@ INTERFACE = {
         "fillings": ["standing"],
     },
     "positiontexts": {"position_text": ["position"], "read_position": ["many", "value"]},
+    "scores": {"score_error": ["many", "value"]},
+    "scoring": {"worth_of": ["score", "board"], "is_rising": ["many", "score"], "depends": ["many", "score"]},
+    "scoretexts": {"score_text": ["score"], "read_score": ["many", "value"]},
+    "triangles": {
+        "near": ["side", "cell"],
+        "touches": ["side", "cell"],
+        "reduced": ["side", "board"],
+        "last_owner": ["side", "board"],
+    },
+    "hexes": {
+        "hex_near": ["rows", "columns", "cell"],
+        "hex_owner": ["rows", "columns", "board"],
+        "hex_path": ["rows", "columns", "board"],
+        "hex_in_y": ["rows", "columns"],
+    },
 }
 FREE = {
     "object", "id", "format", "credits", "license", "copyright", "quit", "callable", "complex", "ascii", "oct",
