@@ -1,4 +1,4 @@
-"""What counts as an integer, as a hand and as a cell."""
+"""What counts as an integer, as a hand, as a cell and as a pair."""
 
 
 def is_integer(value):
@@ -14,3 +14,8 @@ def is_hand(value):
 def is_cell(many, value):
     """Return whether value is one of so many cells."""
     return is_integer(value) and 0 <= value < many
+
+
+def is_pair(value):
+    """Return whether value is a tuple of two items."""
+    return isinstance(value, tuple) and len(value) == 2

@@ -1,7 +1,7 @@
 """Positions: whose the turns were, and who has which cell."""
 
 from drawnturns.errors import Unfit
-from drawnturns.kinds import is_cell, is_hand
+from drawnturns.kinds import is_cell, is_hand, is_pair
 
 
 def position_error(many, value):
@@ -23,9 +23,7 @@ def position_error(many, value):
 
 def is_pair_of_tuples(value):
     """Return whether value is a tuple of two tuples."""
-    if not isinstance(value, tuple) or len(value) != 2:
-        return False
-    return isinstance(value[0], tuple) and isinstance(value[1], tuple)
+    return is_pair(value) and all([isinstance(part, tuple) for part in value])
 
 
 def empty_cells(standing):

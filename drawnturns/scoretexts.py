@@ -2,6 +2,7 @@
 
 from drawnturns.bounds import MAX_DEEP
 from drawnturns.errors import BadScore, BadText
+from drawnturns.numerals import FIGURES, MOST_FIGURES
 from drawnturns.scores import score_error
 
 # The words of scores in brackets, by their first signs, which are unlike.
@@ -13,8 +14,6 @@ WORDS = {
     "n": "not",
     "i": "if",
 }
-FIGURES = "0123456789"
-MOST_FIGURES = 7
 
 
 def score_text(score):

@@ -23,6 +23,12 @@ class TestExamples(Checks, unittest.TestCase):
     def test_triangles_and_hex_boards(self):
         self.run_file("examples_g.txt", 9)
 
+    def test_draws(self):
+        self.run_file("examples_c.txt", 31)
+
+    def test_means_and_worths(self):
+        self.run_file("examples_d.txt", 15)
+
 
 if __name__ == "__main__":
     unittest.main()

@@ -39,6 +39,17 @@ INTERFACE = {
         "hex_path": ["rows", "columns", "board"],
         "hex_in_y": ["rows", "columns"],
     },
+    "drawkinds": {"draws_error": ["many", "value"]},
+    "drawing": {
+        "chance": ["many", "draws", "row"],
+        "next_chance": ["many", "draws", "row"],
+        "numbers_of": ["many", "draws"],
+        "is_exchangeable": ["many", "draws"],
+        "parting_rows": ["many", "draws"],
+    },
+    "drawtexts": {"draws_text": ["draws"], "read_draws": ["many", "value"]},
+    "means": {"position_of": ["many"], "mean_at": ["draws", "score", "position"]},
+    "gametree": {"worth_at": ["draws", "score", "position"]},
 }
 FREE = {
     "object", "id", "format", "credits", "license", "copyright", "quit", "callable", "complex", "ascii", "oct",
