@@ -219,7 +219,8 @@ class TestDrawsError(Checks, unittest.TestCase):
 
     def test_any_values(self):
         for many in (1, 2, 10):
-            self.with_any_values(lambda value: self.assert_same(draws_error(many, value), drawn.draws_error(many, value)))
+            self.with_any_values(lambda value: self.assert_same(
+                draws_error(many, value), drawn.draws_error(many, value)))
 
     def test_any_values_inside(self):
         def check(value):

@@ -26,8 +26,14 @@ class TestExamples(Checks, unittest.TestCase):
     def test_draws(self):
         self.run_file("examples_c.txt", 31)
 
-    def test_means_and_worths(self):
-        self.run_file("examples_d.txt", 15)
+    def test_means_worths_and_best_cells(self):
+        self.run_file("examples_d.txt", 24)
+
+    def test_scores_that_part_worth_and_mean(self):
+        self.run_file("examples_e.txt", 10)
+
+    def test_all_chances(self):
+        self.run_file("examples_f.txt", 15)
 
 
 if __name__ == "__main__":

@@ -50,6 +50,18 @@ INTERFACE = {
     "drawtexts": {"draws_text": ["draws"], "read_draws": ["many", "value"]},
     "means": {"position_of": ["many"], "mean_at": ["draws", "score", "position"]},
     "gametree": {"worth_at": ["draws", "score", "position"]},
+    "bestcells": {
+        "weighs": ["draws", "score", "position", "cell"],
+        "best_cells": ["draws", "score", "position", "hand"],
+    },
+    "partingscores": {"parting_score": ["many", "draws"], "parting_error": ["many", "draws", "value"]},
+    "forms": {
+        "form": ["many", "score"],
+        "cell_form": ["many", "score", "cell"],
+        "form_at": ["coefficients", "fraction"],
+        "best_at": ["many", "score", "fraction"],
+    },
+    "roots": {"parted": ["one", "other"]},
 }
 FREE = {
     "object", "id", "format", "credits", "license", "copyright", "quit", "callable", "complex", "ascii", "oct",

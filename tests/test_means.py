@@ -96,7 +96,8 @@ class TestMeanAt(Checks, unittest.TestCase):
     def test_positions_that_cannot_come(self):
         for draws, row in (
             (("coin", 1, 0), (0,)), (("coin", 0, 1), (1, 0)), (("bag", 1, 2), (1, 1)), (("urn", 0, 2, 1), (1,)),
-            (("row", (1, 0, 0)), (0,)), (("chain", (1, 1), (1, 0), (1, 1)), (1, 0)), (("table", (((1, 1, 1), 1),)), (0,)),
+            (("row", (1, 0, 0)), (0,)), (("chain", (1, 1), (1, 0), (1, 1)), (1, 0)),
+            (("table", (((1, 1, 1), 1),)), (0,)),
         ):
             for turns in range(3 - len(row) + 1):
                 whole = row + (1,) * turns
