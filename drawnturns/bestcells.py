@@ -21,11 +21,21 @@ def weighs(draws, score, position, cell):
 
 def best_cells(draws, score, position, hand):
     """Return the ascending tuple of the empty cells that are best for hand."""
+    return wished_cells(draws, score, position, hand, hand)
+
+
+def worst_cells(draws, score, position, hand):
+    """Return the ascending tuple of the empty cells that are worst for hand."""
+    return wished_cells(draws, score, position, hand, 1 - hand)
+
+
+def wished_cells(draws, score, position, hand, wish):
+    """Return the ascending tuple of the empty cells that the hand wish would have hand take."""
     if not can_be_next(draws, position, hand):
         raise Unfit()
     cells = empty_cells(position[1])
     worths, _ = on_one_scale(worths_behind(draws, score, position, hand))
-    best = max(worths) if hand == 1 else min(worths)
+    best = max(worths) if wish == 1 else min(worths)
     return tuple([cell for cell, worth in zip(cells, worths) if worth == best])
 
 

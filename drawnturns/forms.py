@@ -50,10 +50,20 @@ def best_at(many, score, fraction):
     """Return the ascending tuple of the best cells at the beginning, fraction being A's chance."""
     if not is_inner_fraction(fraction):
         raise Unfit()
+    return best_of(weight_forms(many, score), fraction)
+
+
+def weight_forms(many, score):
+    """Return the list of the forms of what each cell weighs."""
     worths = all_worths(many, score)
-    weights = [form_at(weight_form(worths, many, cell), fraction) for cell in range(many)]
-    numbers, _ = on_one_scale(weights)
-    return tuple([cell for cell in range(many) if numbers[cell] == max(numbers)])
+    return [weight_form(worths, many, cell) for cell in range(many)]
+
+
+def best_of(forms, fraction):
+    """Return the ascending tuple of the cells whose forms are the greatest at the fraction."""
+    numbers, _ = on_one_scale([form_at(told, fraction) for told in forms])
+    most = max(numbers)
+    return tuple([cell for cell, number in enumerate(numbers) if number == most])
 
 
 def is_inner_fraction(value):

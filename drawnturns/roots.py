@@ -14,8 +14,30 @@ def parted(one, other):
 
 def inner_roots(form):
     """Return at how many points between 0 and 1, the ends left out, the form comes to 0; it is not () itself."""
-    chain = sturm_chain(without_ends(form))
-    return changes(chain, (0, 1)) - changes(chain, (1, 1))
+    return roots_between(inner_chain(form), (0, 1), (1, 1))
+
+
+def inner_chain(form):
+    """Return the chain of the form, which is not (), by which its roots between 0 and 1 are counted."""
+    return sturm_chain(without_ends(form))
+
+
+def roots_between(chain, low, high):
+    """Return at how many points between the fractions the form of the chain comes to 0; at these it does not."""
+    return changes(chain, low) - changes(chain, high)
+
+
+def is_root(chain, fraction):
+    """Return whether the form of the chain comes to 0 at the fraction."""
+    return raised_value(chain[0], fraction[0], fraction[1]) == 0
+
+
+def shared_chain(chain, other):
+    """Return the chain of the form that comes to 0 where those of both chains do."""
+    one, rest = chain[0], other[0]
+    while len(rest) > 0:
+        one, rest = rest, turned_rest(one, rest)
+    return sturm_chain(one)
 
 
 def without_ends(form):

@@ -4,7 +4,7 @@ from fractions import Fraction
 from itertools import product
 
 from drawn import all_rows, row_chance, turn_chance
-from plays import behind
+from plays import begun, behind
 from reference import worth_of
 
 
@@ -72,6 +72,61 @@ def weight_at(draws, score, position, cell):
     """The mean behind A's taking the cell less that behind B's."""
     of_a, of_b = [mean_at(draws, score, behind(position, hand, cell)) for hand in (1, 0)]
     return of_a - of_b
+
+
+def best_by_means(draws, score, position, hand):
+    """The empty cells behind whose taking by hand, who can be next, the mean is best for it."""
+    means = {cell: mean_at(draws, score, behind(position, hand, cell)) for cell in empty_in(position)}
+    best = max(means.values()) if hand else min(means.values())
+    return tuple(cell for cell in sorted(means) if means[cell] == best)
+
+
+def is_decided(score, standing):
+    """Whether all boards that the standing can become have one worth."""
+    return len({worth_of(score, board) for board in boards_of(standing)}) == 1
+
+
+def next_hands(draws, row):
+    """The pairs of a hand that can be next behind row, and its chance."""
+    of_a = turn_chance(draws, row)
+    return [(hand, share) for hand, share in ((1, of_a), (0, 1 - of_a)) if share]
+
+
+def lengths_of(many, draws, score, best):
+    """The dict of the chances of all lengths of games in which best(draws, score, position, hand) tells best cells."""
+    found = {}
+    waiting = [(begun(many), Fraction(1))]
+    while waiting:
+        position, told = waiting.pop()
+        if is_decided(score, position[1]):
+            found[len(position[0])] = found.get(len(position[0]), 0) + told
+            continue
+        hands = next_hands(draws, position[0])
+        cells = {best(draws, score, position, hand) for hand, _ in hands}
+        # Where both hands can be next both have the same best cells.
+        assert len(cells) == 1, (draws, score, position)
+        cell = cells.pop()[0]
+        waiting += [(behind(position, hand, cell), told * share) for hand, share in hands]
+    return found
+
+
+def means_by_rules(draws, score, position, known=None):
+    """The set of the means of further turns until the game is decided, one for each rule."""
+    known = {} if known is None else known
+    if position in known:
+        return known[position]
+    found = set()
+    if is_decided(score, position[1]):
+        found.add(Fraction(0))
+    else:
+        for cell in empty_in(position):
+            sums = {Fraction(1)}
+            for hand, share in next_hands(draws, position[0]):
+                told = means_by_rules(draws, score, behind(position, hand, cell), known)
+                sums = {one + share * other for one in sums for other in told}
+            found |= sums
+    known[position] = found
+    return found
 
 
 def opposite(position):

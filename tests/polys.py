@@ -112,3 +112,67 @@ def count_simple(form):
     half = Fraction(1, 2)
     at_half = value_at(form, half) == 0
     return at_half + count_simple(moved(form, 0, half)) + count_simple(moved(form, half, half))
+
+
+# Where the roots lie, and which of several forms is the greatest between.
+
+def root_spots(form, width, low=Fraction(0), high=Fraction(1)):
+    """Pairs (low, high), narrower than width, with one root each: all roots of a simple form between low and high."""
+    inside = moved(form, low, high - low)
+    while inside[0] == 0:
+        inside = inside[1:]
+    while len(inside) > 1 and sum(inside) == 0:
+        inside = quotient_and_rest(inside, (-1, 1))[0]
+    changes = sign_changes(inside)
+    if changes == 0:
+        return []
+    if changes == 1:
+        return [tuple(low + part * (high - low) for part in narrowed(inside, width))]
+    middle = (low + high) / 2
+    found = [(middle, middle)] if value_at(form, middle) == 0 else []
+    return root_spots(form, width, low, middle) + found + root_spots(form, width, middle, high)
+
+
+def narrowed(form, width):
+    """A pair (low, high), narrower than width, around the one root that a simple form has between 0 and 1."""
+    low, high = Fraction(0), Fraction(1)
+    while high - low >= width:
+        middle = (low + high) / 2
+        told = value_at(form, middle)
+        if told == 0:
+            return (middle, middle)
+        if (told > 0) == (form[0] > 0):
+            low = middle
+        else:
+            high = middle
+    return (low, high)
+
+
+def meeting_spots(forms, width=Fraction(1, 2 ** 70)):
+    """Where some two unlike forms come to the same: spots in their order, those that overlap made one."""
+    gaps = {minus(one, other) for one in forms for other in forms}
+    spots = sorted(spot for gap in gaps if gap for spot in root_spots(simple(gap), width))
+    found = []
+    for low, high in spots:
+        if found and low <= found[-1][1]:
+            found[-1] = (found[-1][0], max(high, found[-1][1]))
+        else:
+            found.append((low, high))
+    return found
+
+
+def greatest_cells(forms, point):
+    """The places of those of the forms that are the greatest at a Fraction."""
+    values = [value_at(form, point) for form in forms]
+    return tuple(place for place, value in enumerate(values) if value == max(values))
+
+
+def greatest_in_turn(forms):
+    """Which forms are the greatest between 0 and 1, in turn, but for single points."""
+    ends = [Fraction(0)] + [end for spot in meeting_spots(forms) for end in spot] + [Fraction(1)]
+    found = []
+    for low, high in zip(ends[::2], ends[1::2]):
+        cells = greatest_cells(forms, (low + high) / 2)
+        if found[-1:] != [cells]:
+            found.append(cells)
+    return found

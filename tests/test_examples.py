@@ -21,7 +21,7 @@ class TestExamples(Checks, unittest.TestCase):
         self.run_file("examples_b.txt", 28)
 
     def test_triangles_and_hex_boards(self):
-        self.run_file("examples_g.txt", 9)
+        self.run_file("examples_g.txt", 14)
 
     def test_draws(self):
         self.run_file("examples_c.txt", 31)
@@ -33,7 +33,13 @@ class TestExamples(Checks, unittest.TestCase):
         self.run_file("examples_e.txt", 10)
 
     def test_all_chances(self):
-        self.run_file("examples_f.txt", 15)
+        self.run_file("examples_f.txt", 18)
+
+    def test_lengths(self):
+        self.run_file("examples_h.txt", 18)
+
+    def test_players(self):
+        self.run_file("examples_i.txt", 11)
 
 
 if __name__ == "__main__":

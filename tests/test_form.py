@@ -62,6 +62,20 @@ INTERFACE = {
         "best_at": ["many", "score", "fraction"],
     },
     "roots": {"parted": ["one", "other"]},
+    "stretches": {"stretches": ["many", "score"]},
+    "chains": {"owner": ["side", "board"], "chain": ["side", "board"], "chain_error": ["side", "board", "value"]},
+    "deciding": {"is_decided": ["score", "standing"]},
+    "lengths": {
+        "mean_turns": ["many", "draws", "score"],
+        "fewest_turns": ["many", "draws", "score"],
+        "most_turns": ["many", "draws", "score"],
+        "least_mean_turns": ["many", "draws", "score"],
+        "square": ["many", "score"],
+    },
+    "players": {
+        "player_error": ["many", "value"],
+        "choice": ["draws", "score", "position", "hand", "player"],
+    },
 }
 FREE = {
     "object", "id", "format", "credits", "license", "copyright", "quit", "callable", "complex", "ascii", "oct",

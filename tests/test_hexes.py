@@ -1,32 +1,10 @@
-import random
 import unittest
-from itertools import product
 
+from boards import SHAPES, greater_hexes, small_hexes
 from checks import Checks
 from drawnturns.hexes import hex_in_y, hex_near, hex_owner, hex_path
 from drawnturns.triangles import last_owner
 from reference import has_chain, hex_cells, hex_near_one, joins, triangle_cells
-
-SHAPES = [(rows, columns) for rows in range(1, 13) for columns in range(1, 14 - rows)]
-
-
-def small_boards():
-    """All hex boards of up to nine cells, each with its rows and columns."""
-    return [
-        (rows, columns, board) for rows, columns in SHAPES if rows * columns <= 9
-        for board in product((0, 1), repeat=rows * columns)
-    ]
-
-
-def greater_boards():
-    """Some boards of all shapes, with more or fewer cells of A."""
-    chooser = random.Random(5)
-    found = []
-    for rows, columns in SHAPES:
-        for _ in range(8):
-            chance = chooser.choice((0.3, 0.5, 0.5, 0.7))
-            found.append((rows, columns, tuple(int(chooser.random() < chance) for _ in range(rows * columns))))
-    return found
 
 
 class TestHexNear(Checks, unittest.TestCase):
@@ -50,14 +28,14 @@ class TestHexNear(Checks, unittest.TestCase):
 
 
 class TestHexOwner(Checks, unittest.TestCase):
-    def test_just_one_hand_joins_on_all_small_boards(self):
-        for rows, columns, board in small_boards():
+    def test_just_one_hand_joins_on_all_small_hexes(self):
+        for rows, columns, board in small_hexes():
             owner = hex_owner(rows, columns, board)
             self.assert_same(owner, int(joins(rows, columns, board, 1)))
             self.assertEqual(joins(rows, columns, board, 0), owner == 0)
 
-    def test_greater_boards(self):
-        for rows, columns, board in greater_boards():
+    def test_greater_hexes(self):
+        for rows, columns, board in greater_hexes():
             self.assert_same(hex_owner(rows, columns, board), int(joins(rows, columns, board, 1)))
 
     def test_one_row_and_one_column(self):
@@ -88,12 +66,12 @@ class TestHexPath(Checks, unittest.TestCase):
         self.assertEqual((cells[0][at], cells[-1][at]), (0, last))
         self.assertEqual(hex_path(rows, columns, board), path)
 
-    def test_all_small_boards(self):
-        for rows, columns, board in small_boards():
+    def test_all_small_hexes(self):
+        for rows, columns, board in small_hexes():
             self.check(rows, columns, board)
 
-    def test_greater_boards(self):
-        for rows, columns, board in greater_boards():
+    def test_greater_hexes(self):
+        for rows, columns, board in greater_hexes():
             self.check(rows, columns, board)
 
     def test_a_winding_path(self):
@@ -127,7 +105,7 @@ class TestHexInY(Checks, unittest.TestCase):
             self.assert_same(hex_in_y(rows, columns), (side, standing, places))
 
     def test_the_owner_of_the_triangle_is_that_of_the_hex_board(self):
-        for rows, columns, board in small_boards() + greater_boards():
+        for rows, columns, board in small_hexes() + greater_hexes():
             side, standing, places = hex_in_y(rows, columns)
             filled = list(standing)
             for place, hand in zip(places, board):

@@ -1,26 +1,10 @@
-import random
 import unittest
-from itertools import product
 
+from boards import drawn_triangles, small_triangles
 from checks import Checks
 from drawnturns.errors import Unfit
 from drawnturns.triangles import last_owner, near, reduced, touches
 from reference import has_chain, triangle_cells, triangle_near, triangle_sides
-
-
-def drawn_boards(seed, side, number):
-    """So many boards of a triangle, with more or fewer cells of A."""
-    chooser = random.Random(seed)
-    boards = []
-    for _ in range(number):
-        chance = chooser.choice((0.3, 0.45, 0.5, 0.5, 0.55, 0.7))
-        boards.append(tuple(int(chooser.random() < chance) for _ in triangle_cells(side)))
-    return boards
-
-
-def small_boards():
-    """All boards of the sides from 1 to 4, each with its side."""
-    return [(side, board) for side in (1, 2, 3, 4) for board in product((0, 1), repeat=side * (side + 1) // 2)]
 
 
 class TestNear(Checks, unittest.TestCase):
@@ -69,14 +53,14 @@ class TestReduced(Checks, unittest.TestCase):
             for r, c in triangle_cells(side - 1)
         )
 
-    def test_all_small_boards(self):
-        for side, board in small_boards():
+    def test_all_small_triangles(self):
+        for side, board in small_triangles():
             if side > 1:
                 self.assert_same(reduced(side, board), self.wanted(side, board))
 
     def test_greater_boards(self):
         for side in range(5, 13):
-            for board in drawn_boards(side, side, 20):
+            for board in drawn_triangles(side, side, 20):
                 self.assert_same(reduced(side, board), self.wanted(side, board))
 
     def test_a_side_of_one(self):
@@ -92,15 +76,15 @@ class TestReduced(Checks, unittest.TestCase):
 
 
 class TestLastOwner(Checks, unittest.TestCase):
-    def test_just_one_hand_has_a_chain_on_all_small_boards(self):
-        for side, board in small_boards():
+    def test_just_one_hand_has_a_chain_on_all_small_triangles(self):
+        for side, board in small_triangles():
             owner = last_owner(side, board)
             self.assert_same(owner, int(has_chain(side, board, 1)))
             self.assertEqual(has_chain(side, board, 0), owner == 0)
 
     def test_greater_boards(self):
         for side in range(5, 13):
-            for board in drawn_boards(100 + side, side, 12):
+            for board in drawn_triangles(100 + side, side, 12):
                 self.assert_same(last_owner(side, board), int(has_chain(side, board, 1)))
                 self.assertNotEqual(has_chain(side, board, 0), has_chain(side, board, 1))
 
@@ -110,16 +94,16 @@ class TestLastOwner(Checks, unittest.TestCase):
                 self.assert_same(last_owner(side, (hand,) * (side * (side + 1) // 2)), hand)
 
     def test_it_is_the_last_owner_of_the_reduced_board(self):
-        for side, board in small_boards():
+        for side, board in small_triangles():
             if side > 1:
                 self.assertEqual(last_owner(side, board), last_owner(side - 1, reduced(side, board)))
 
     def test_it_is_exchanged_with_the_hands(self):
-        for side, board in small_boards():
+        for side, board in small_triangles():
             self.assertEqual(last_owner(side, tuple(1 - hand for hand in board)), 1 - last_owner(side, board))
 
     def test_a_cell_more_for_a_does_no_harm(self):
-        for side, board in small_boards():
+        for side, board in small_triangles():
             for cell in range(len(board)):
                 more = board[:cell] + (1,) + board[cell + 1:]
                 self.assertLessEqual(last_owner(side, board), last_owner(side, more))
