@@ -39,7 +39,16 @@ class TestExamples(Checks, unittest.TestCase):
         self.run_file("examples_h.txt", 18)
 
     def test_players(self):
-        self.run_file("examples_i.txt", 11)
+        self.run_file("examples_i.txt", 18)
+
+    def test_full_boards(self):
+        self.run_file("examples_j.txt", 9)
+
+    def test_games(self):
+        self.run_file("examples_k.txt", 27)
+
+    def test_shells(self):
+        self.run_file("examples_l.txt", 10)
 
 
 if __name__ == "__main__":

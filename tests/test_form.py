@@ -76,6 +76,36 @@ INTERFACE = {
         "player_error": ["many", "value"],
         "choice": ["draws", "score", "position", "hand", "player"],
     },
+    "playouts": {
+        "outcome": ["many", "draws", "score", "one", "other"],
+        "reply": ["many", "draws", "score", "player", "hand"],
+    },
+    "fullboards": {
+        "weight_of": ["many", "draws", "board"],
+        "full_chances": ["many", "draws", "score", "one", "other"],
+    },
+    "gamelogs": {
+        "log_text": ["log"],
+        "read_log": ["many", "value"],
+        "game_behind": ["many", "draws", "score", "value"],
+    },
+}
+# The classes with the methods that they define themselves.
+CLASSES = {
+    "games": ("Game", {
+        "__init__": ["self", "many", "draws", "score"],
+        "mean": ["self"],
+        "best": ["self"],
+        "worth": ["self"],
+        "drawn": ["self", "hand"],
+        "put": ["self", "cell"],
+        "rescore": ["self", "score"],
+        "undo": ["self"],
+        "twin": ["self"],
+        "__eq__": ["self", "other"],
+        "__ne__": ["self", "other"],
+    }),
+    "shells": ("Shell", {"__init__": ["self"], "say": ["self", "line"]}),
 }
 FREE = {
     "object", "id", "format", "credits", "license", "copyright", "quit", "callable", "complex", "ascii", "oct",
@@ -200,6 +230,12 @@ class TestForm(unittest.TestCase):
                 with self.subTest(module=module, name=name):
                     self.assertIsInstance(here[name], ast.FunctionDef)
                     self.assertEqual([arg.arg for arg in here[name].args.args], parameters)
+        for module, (name, methods) in CLASSES.items():
+            kind = defined_in(trees[module])[name]
+            self.assertIsInstance(kind, ast.ClassDef)
+            here = {node.name: node for node in kind.body if isinstance(node, ast.FunctionDef)}
+            for method, parameters in methods.items():
+                self.assertEqual([arg.arg for arg in here[method].args.args], parameters, method)
         here = defined_in(trees["errors"])
         self.assertLessEqual(ERRORS, set(here))
         self.assertTrue(all(isinstance(here[name], ast.ClassDef) for name in ERRORS))
