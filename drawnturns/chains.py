@@ -33,11 +33,12 @@ def hanging(side, cells, first):
     left = {cell: True for cell in cells if cell != first}
     done = 0
     while done < len(group):
-        for cell in near(side, group[done]):
-            if cell in left:
-                del left[cell]
-                group.append(cell)
+        cell = group[done]
         done += 1
+        for other in near(side, cell):
+            if other in left:
+                del left[other]
+                group.append(other)
     return tuple(sorted(group))
 
 

@@ -2,7 +2,6 @@ import random
 import unittest
 from itertools import combinations, product
 
-import drawn
 from boards import drawn_triangles, greater_hexes, small_hexes, small_triangles
 from checks import Checks
 from drawnturns.chains import chain, chain_error, owner

@@ -108,7 +108,9 @@ class TestFullChances(Checks, unittest.TestCase):
 
     def test_by_hand(self):
         up, down = ("order", (0, 1, 2)), ("order", (2, 1, 0))
-        for row, board in (((1, 0, 0), (1, 0, 0)), ((0, 1, 0), (1, 0, 0)), ((1, 1, 0), (1, 1, 0)), ((0, 0, 1), (1, 0, 0))):
+        for row, board in (
+            ((1, 0, 0), (1, 0, 0)), ((0, 1, 0), (1, 0, 0)), ((0, 0, 1), (1, 0, 0)), ((1, 1, 0), (1, 1, 0)),
+        ):
             self.assert_same(full_chances(3, ("row", row), SUM, up, down), ((board, (1, 1)),))
         self.assert_same(full_chances(3, ("row", (1, 0, 1)), SUM, ("worst",), ("best",)), (((0, 1, 1), (1, 1)),))
         told = ((0, 0, 0), (1, 8)), ((1, 0, 0), (3, 8)), ((1, 1, 0), (3, 8)), ((1, 1, 1), (1, 8))
@@ -129,7 +131,8 @@ class TestFullChances(Checks, unittest.TestCase):
                     self.assert_raises(TooMany(5), full_chances, many, draws, CELLS[0], one, ("worst",))
 
     def test_by_names(self):
-        self.assert_same(full_chances(other=("toward", 1), one=("toward", 0), score=CELLS[0], draws=("row", (0, 1)), many=2),
+        self.assert_same(full_chances(other=("toward", 1), one=("toward", 0), score=CELLS[0], draws=("row", (0, 1)),
+                                      many=2),
                          (((1, 0), (1, 1)),))
 
 

@@ -150,7 +150,8 @@ class TestEdits(Checks, unittest.TestCase):
 
     def test_drawn_hands_that_cannot_be_next(self):
         for draws, row, hand in (
-            (("row", (1, 0, 0)), (), 0), (("row", (1, 0, 0)), (1,), 1), (("coin", 1, 0), (1,), 0), (("coin", 0, 1), (), 1),
+            (("row", (1, 0, 0)), (), 0), (("row", (1, 0, 0)), (1,), 1), (("coin", 1, 0), (1,), 0),
+            (("coin", 0, 1), (), 1),
             (("bag", 1, 2), (1,), 1), (("urn", 0, 1, 5), (), 1), (("chain", (1, 1), (1, 0), (0, 1)), (1,), 0),
             (("table", (((0, 0, 1), 1), ((1, 1, 1), 1))), (0,), 1), (("bag", 2, 1), (0,), 0),
         ):

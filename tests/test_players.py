@@ -45,7 +45,8 @@ class TestPlayerError(Checks, unittest.TestCase):
             self.check(3, value, "form")
 
     def test_wrong_cells(self):
-        for cells in ((), (0,), (0, 1), (0, 1, 1), (0, 0, 0), (1, 2, 3), (0, 1, 3), (-1, 0, 1), (0, 1, 2, 3), (0, 1, 2, 2),
+        for cells in ((), (0,), (0, 1), (0, 1, 1), (0, 0, 0), (1, 2, 3), (0, 1, 3), (-1, 0, 1), (0, 1, 2, 3),
+                      (0, 1, 2, 2),
                       [0, 1, 2], "012", None, 0, (0, True, 2), (False, 1, 2), (0, 1, "2"), (0, 1, None), (0, 1, (2,)),
                       {0: 1, 1: 2, 2: 3}, range(3), (10 ** 400, 0, 1)):
             self.check(3, ("order", cells), "cells")

@@ -3,7 +3,6 @@ import unittest
 from fractions import Fraction
 
 import playing
-import reference
 from checks import Checks
 from drawnturns.errors import TooMany
 from drawnturns.gametree import worth_at

@@ -13,8 +13,10 @@ from shelling import Model
 CELLS = [("cell", cell) for cell in range(10)]
 MOST = "greatest(least(c0, c1), least(c0, c2), least(c1, c2))"
 # Lines that ask, each of them answered by the same as long as nothing changes.
-ASKING = ("position", "hand", "mean", "best", "end", "worth", "weighs 0", "weighs 1", "log", "numbers", "parting", "form",
-          "stretches", "square", "length", "least")
+ASKING = (
+    "position", "hand", "mean", "best", "end", "worth", "weighs 0", "weighs 1", "log", "numbers", "parting", "form",
+    "stretches", "square", "length", "least",
+)
 # For each line what it needs, in the order in which it is told.
 NEEDS = {
     "draws coin 1 1": ["cells"], "score c0": ["cells"], "draws": None, "score": None, "play": ["draws", "score"],
@@ -26,14 +28,15 @@ NEEDS = {
 }
 WRONG = (
     "", " ", "cells", "cells ", "cells 03", "cells 3 ", "cells  3", " cells 3", "cells -1", "cells +3", "cells 3.0",
-    "cells three", "cells 100000", "cells 99999999999", "cells 00", "Cells 3", "cells 3\n", "cells 3 3", "draws", "score",
-    "draws\ncoin 1 1", "play ", " play", "Play", "play 1", "begin", "drawn", "drawn ", "drawn C", "drawn a", "drawn AB",
-    "drawn A ", "drawn  A", "drawn 1", "put", "put ", "put 01", "put -1", "put A", "put c1", "put 100000", "put 1 ",
-    "put  1", "rescore ", "rescore c0", "undo ", "undo 1", "position ", "position 1", "hand A", "mean ", "means", "best 1",
-    "end ", "worth 0", "weighs", "weighs ", "weighs c0", "weighs 00", "weighs 100000", "weighs 0 ", "log ", "numbers ",
-    "parting 1", "form ", "stretches ", "square 1", "length ", "least ", "what", "no game", "version", "twin", "help",
-    "play\n", "\nplay", "cells\t3", "error Unfit", "PLAY",
+    "cells three", "cells 100000", "cells 99999999999", "cells 00", "Cells 3", "cells 3\n", "cells 3 3", "draws",
+    "score", "draws\ncoin 1 1", "play ", " play", "Play", "play 1", "begin", "drawn", "drawn ", "drawn C", "drawn a",
+    "drawn AB", "drawn A ", "drawn  A", "drawn 1", "put", "put ", "put 01", "put -1", "put A", "put c1", "put 100000",
+    "put 1 ", "put  1", "rescore ", "rescore c0", "undo ", "undo 1", "position ", "position 1", "hand A", "mean ",
+    "means", "best 1", "end ", "worth 0", "weighs", "weighs ", "weighs c0", "weighs 00", "weighs 100000", "weighs 0 ",
+    "log ", "numbers ", "parting 1", "form ", "stretches ", "square 1", "length ", "least ", "what", "no game",
+    "version", "twin", "help", "play\n", "\nplay", "cells\t3", "error Unfit", "PLAY",
 )
+REFUSED = ("what", "no cells", "no draws", "no score", "no game")
 
 
 def stage(words):
@@ -77,8 +80,9 @@ def some_line(chooser, many, calm=False):
 
 
 class TestShells(Checks, unittest.TestCase):
-    def check_lines(self, shell, lines, answers):
-        for line, answer in zip(lines, answers, strict=True):
+    def check_lines(self, shell, pairs):
+        """Each line of the pairs, said in turn, is answered as it is told."""
+        for line, answer in pairs:
             with self.subTest(line=line):
                 self.assert_same(shell.say(line), answer)
 
@@ -96,7 +100,8 @@ class TestShells(Checks, unittest.TestCase):
                     self.assert_same(answer, model.say(line))
                     seen[answer.split(" ")[0]] = seen.get(answer.split(" ")[0], 0) + 1
             self.assert_same(dump(shell), dump(model))
-        self.assertLessEqual({"what", "error", "no", "version", "begun", "cells", "exchangeable", "not", "rising"}, set(seen))
+        self.assertLessEqual({"what", "error", "no", "version", "begun", "cells", "exchangeable", "not", "rising"},
+                             set(seen))
         self.assertGreater(seen["version"], 150)
         self.assertGreater(seen["error"], 150)
 
@@ -112,13 +117,16 @@ class TestShells(Checks, unittest.TestCase):
                     elif lacking:
                         self.assert_same(answer, "no " + lacking[0])
                     else:
-                        self.assertNotIn(answer, ("what", "no cells", "no draws", "no score", "no game"))
+                        self.assertNotIn(answer, REFUSED)
 
     def test_a_new_shell(self):
-        lines = ("play", "numbers", "parting", "length", "least", "form", "stretches", "square", "rescore", "put 0", "undo",
-                 "drawn A", "position", "log", "draws coin 1 1", "score c0", "draws x", "score ", "weighs 0")
-        answers = ["no draws"] * 5 + ["no score"] * 4 + ["no game"] * 5 + ["no cells"] * 4 + ["no game"]
-        self.check_lines(Shell(), lines, answers)
+        self.check_lines(Shell(), (
+            ("play", "no draws"), ("numbers", "no draws"), ("parting", "no draws"), ("length", "no draws"),
+            ("least", "no draws"), ("form", "no score"), ("stretches", "no score"), ("square", "no score"),
+            ("rescore", "no score"), ("put 0", "no game"), ("undo", "no game"), ("drawn A", "no game"),
+            ("position", "no game"), ("log", "no game"), ("draws coin 1 1", "no cells"), ("score c0", "no cells"),
+            ("draws x", "no cells"), ("score ", "no cells"), ("weighs 0", "no game"),
+        ))
 
     def test_all_else_is_answered_by_what(self):
         for words in ((), ("cells", "draws", "score"), ("cells", "draws", "score", "game")):
@@ -161,97 +169,99 @@ class TestShells(Checks, unittest.TestCase):
         self.assert_same(shell.say("cells 11"), "error Unfit")
         self.assert_same([shell.say(line) for line in ("numbers", "form", "position")],
                          ["1/8 3/8 3/8 1/8", "0 1", "... -"])
-        self.check_lines(shell, ("cells 3", "numbers", "form", "position", "play", "drawn A", "rescore", "score c2"),
-                         ["cells 3", "no draws", "no score", "no game", "no draws", "no game", "no score", "rising"])
+        self.check_lines(shell, (
+            ("cells 3", "cells 3"), ("numbers", "no draws"), ("form", "no score"), ("position", "no game"),
+            ("play", "no draws"), ("drawn A", "no game"), ("rescore", "no score"), ("score c2", "rising"),
+        ))
 
     def test_draws_and_scores(self):
         shell = Shell()
         shell.say("cells 3")
-        for line, answer in (
-            ("draws coin 1 1", "exchangeable"), ("draws row ABA", "not exchangeable"), ("draws row AAA", "exchangeable"),
-            ("draws chain 1 1, 2 1, 1 2", "not exchangeable"), ("draws table BBB 3, AAA 1", "exchangeable"),
-            ("draws mix 1 of coin 1 1; 1 of bag 2 1", "exchangeable"), ("draws row AB", "error BadDraws"),
-            ("draws bag 1 1", "error BadDraws"), ("draws coin 0 0", "error BadText"), ("draws coin", "error BadText"),
-            ("draws ", "error BadText"), ("draws coin 1 1 ", "error BadText"), ("draws  coin 1 1", "error BadText"),
-            ("score c2", "rising"), ("score not(c2)", "not rising"), ("score 7", "rising"), ("score y 2", "rising"),
+        self.check_lines(shell, (
+            ("draws coin 1 1", "exchangeable"), ("draws row ABA", "not exchangeable"),
+            ("draws row AAA", "exchangeable"), ("draws chain 1 1, 2 1, 1 2", "not exchangeable"),
+            ("draws table BBB 3, AAA 1", "exchangeable"), ("draws mix 1 of coin 1 1; 1 of bag 2 1", "exchangeable"),
+            ("draws row AB", "error BadDraws"), ("draws bag 1 1", "error BadDraws"),
+            ("draws coin 0 0", "error BadText"), ("draws coin", "error BadText"), ("draws ", "error BadText"),
+            ("draws coin 1 1 ", "error BadText"), ("draws  coin 1 1", "error BadText"), ("score c2", "rising"),
+            ("score not(c2)", "not rising"), ("score 7", "rising"), ("score y 2", "rising"),
             ("score times(-1, c0)", "not rising"), ("score c3", "error BadScore"), ("score y 3", "error BadScore"),
             ("score if(c0, c1)", "error BadScore"), ("score c", "error BadText"), ("score ", "error BadText"),
             ("score c0 ", "error BadText"), ("score  c0", "error BadText"), ("score sum(c0,c1)", "error BadText"),
-        ):
-            self.assert_same(shell.say(line), answer)
+        ))
         # What was read last without an error is kept.
         self.assert_same([shell.say("numbers"), shell.say("form")], ["1/16 3/16 11/16 1/16", "0 -1"])
 
     def test_a_game_goes_on_with_what_it_has(self):
         shell = Shell()
-        lines = ("cells 2", "draws coin 1 3", "score c0", "play", "draws coin 1 1", "score times(c0, c1)", "mean", "numbers",
-                 "form", "length", "drawn A", "put 1", "mean", "rescore", "mean", "log", "play", "mean", "log", "position")
-        self.check_lines(shell, lines, [
-            "cells 2", "exchangeable", "rising", "begun", "exchangeable", "rising", "1/4", "1/4 1/2 1/4", "0 0 1", "3/2",
-            "version 1", "version 2", "1/4", "version 3", "1/4", "drawn A\nput 1\nscore times(c0, c1)\n", "begun", "1/4", "",
-            ".. -"])
+        self.check_lines(shell, (
+            ("cells 2", "cells 2"), ("draws coin 1 3", "exchangeable"), ("score c0", "rising"), ("play", "begun"),
+            ("draws coin 1 1", "exchangeable"), ("score times(c0, c1)", "rising"), ("mean", "1/4"),
+            ("numbers", "1/4 1/2 1/4"), ("form", "0 0 1"), ("length", "3/2"), ("drawn A", "version 1"),
+            ("put 1", "version 2"), ("mean", "1/4"), ("rescore", "version 3"), ("mean", "1/4"),
+            ("log", "drawn A\nput 1\nscore times(c0, c1)\n"), ("play", "begun"), ("mean", "1/4"), ("log", ""),
+            ("position", ".. -"),
+        ))
 
     def test_a_game_all_through(self):
-        lines = ("cells 2", "draws bag 1 1", "score sum(c0, c0, c1)", "play", "hand", "best", "drawn B", "hand", "best",
-                 "drawn A", "put 1", "hand", "position", "drawn B", "drawn A", "hand", "mean", "end", "put 1", "put 0", "end",
-                 "mean", "worth", "position", "drawn A", "put 0", "undo", "undo", "undo", "undo", "undo", "log")
-        self.check_lines(Shell(), lines, [
-            "cells 2", "exchangeable", "rising", "begun", "nobody", "error Unfit", "version 1", "B", "0",
-            "error Unfit", "version 2", "nobody", ".B B", "error Unfit", "version 3", "A", "2", "error Unfit", "error Unfit",
-            "version 4", "2", "2", "2", "AB BA", "error Unfit", "error Unfit", "version 3", "version 2", "version 1",
-            "version 0", "error NothingToUndo", ""])
+        self.check_lines(Shell(), (
+            ("cells 2", "cells 2"), ("draws bag 1 1", "exchangeable"), ("score sum(c0, c0, c1)", "rising"),
+            ("play", "begun"), ("hand", "nobody"), ("best", "error Unfit"), ("drawn B", "version 1"), ("hand", "B"),
+            ("best", "0"), ("drawn A", "error Unfit"), ("put 1", "version 2"), ("hand", "nobody"),
+            ("position", ".B B"), ("drawn B", "error Unfit"), ("drawn A", "version 3"), ("hand", "A"), ("mean", "2"),
+            ("end", "error Unfit"), ("put 1", "error Unfit"), ("put 0", "version 4"), ("end", "2"), ("mean", "2"),
+            ("worth", "2"), ("position", "AB BA"), ("drawn A", "error Unfit"), ("put 0", "error Unfit"),
+            ("undo", "version 3"), ("undo", "version 2"), ("undo", "version 1"), ("undo", "version 0"),
+            ("undo", "error NothingToUndo"), ("log", ""),
+        ))
 
     def test_fractions(self):
-        shell = Shell()
-        for lines, answers in (
-            (("cells 2", "draws coin 1 2", "score sum(c0, c1, -1)", "play"), None),
-            (("mean", "worth", "numbers", "square", "length", "least", "form", "weighs 1"),
-             ["-1/3", "-1/3", "4/9 4/9 1/9", "4", "2", "2", "-1 2", "1"]),
-            (("score 0", "play", "mean", "worth", "square", "length", "least", "form", "stretches", "weighs 0"),
-             ["rising", "begun", "0", "0", "0", "0", "0", "0", "0 1", "0"]),
-            (("score -5", "play", "mean", "form", "end"), ["rising", "begun", "-5", "-5", "error Unfit"]),
-            (("draws row BB", "numbers", "play", "mean", "weighs 0"), ["exchangeable", "1 0 0", "begun", "-5", "error Unfit"]),
-            (("score times(-2, c0)", "draws coin 1 1", "play", "mean", "square", "weighs 0", "weighs 1"),
-             ["not rising", "exchangeable", "begun", "-1", "4", "-2", "0"]),
-        ):
-            told = [shell.say(line) for line in lines]
-            if answers is not None:
-                self.assert_same(told, answers)
+        self.check_lines(Shell(), (
+            ("cells 2", "cells 2"), ("draws coin 1 2", "exchangeable"), ("score sum(c0, c1, -1)", "rising"),
+            ("play", "begun"), ("mean", "-1/3"), ("worth", "-1/3"), ("numbers", "4/9 4/9 1/9"), ("square", "4"),
+            ("length", "2"), ("least", "2"), ("form", "-1 2"), ("weighs 1", "1"), ("score 0", "rising"),
+            ("play", "begun"), ("mean", "0"), ("worth", "0"), ("square", "0"), ("length", "0"), ("least", "0"),
+            ("form", "0"), ("stretches", "0 1"), ("weighs 0", "0"), ("score -5", "rising"), ("play", "begun"),
+            ("mean", "-5"), ("form", "-5"), ("end", "error Unfit"), ("draws row BB", "exchangeable"),
+            ("numbers", "1 0 0"), ("play", "begun"), ("mean", "-5"), ("weighs 0", "error Unfit"),
+            ("score times(-2, c0)", "not rising"), ("draws coin 1 1", "exchangeable"), ("play", "begun"),
+            ("mean", "-1"), ("square", "4"), ("weighs 0", "-2"), ("weighs 1", "0"),
+        ))
 
     def test_more_of_draws_and_scores(self):
-        shell = Shell()
-        for lines, answers in (
-            (("cells 3", "draws row ABB", "score sum(times(3, least(c0, c1)), c2)"), None),
-            (("numbers", "parting", "form", "stretches", "square", "length", "least"),
-             ["0 1 0 0", "BBA ABB", "0 1 3", "2; 0 1", "16", "error Unfit", "error Unfit"]),
-            (("draws bag 2 1", "numbers", "parting", "length", "least"), ["exchangeable", "0 0 1 0", "none", "3", "8/3"]),
-            (("score not(c0)", "form", "stretches", "length"), ["not rising", "1 -1", "1 2", "8/3"]),
-        ):
-            told = [shell.say(line) for line in lines]
-            if answers is not None:
-                self.assert_same(told, answers)
+        self.check_lines(Shell(), (
+            ("cells 3", "cells 3"), ("draws row ABB", "not exchangeable"),
+            ("score sum(times(3, least(c0, c1)), c2)", "rising"), ("numbers", "0 1 0 0"), ("parting", "BBA ABB"),
+            ("form", "0 1 3"), ("stretches", "2; 0 1"), ("square", "16"), ("length", "error Unfit"),
+            ("least", "error Unfit"), ("draws bag 2 1", "exchangeable"), ("numbers", "0 0 1 0"), ("parting", "none"),
+            ("length", "3"), ("least", "8/3"), ("score not(c0)", "not rising"), ("form", "1 -1"),
+            ("stretches", "1 2"), ("length", "8/3"),
+        ))
 
     def test_too_many(self):
         shell = Shell()
-        lines = ("cells 6", "draws chain 1 1, 2 1, 1 2", "score c5", "play", "worth", "mean", "length", "least", "drawn A",
-                 "best", "weighs 0", "put 0", "worth", "drawn B", "best", "draws coin 1 1", "least", "length", "play", "worth",
-                 "weighs 5", "drawn A", "best")
-        self.check_lines(shell, lines, [
-            "cells 6", "not exchangeable", "rising", "begun", "error TooMany", "1/2", "error Unfit", "error Unfit", "version 1",
-            "error TooMany", "error Unfit", "version 2", "2/3", "version 3", "5", "exchangeable", "error TooMany", "1", "begun",
-            "error TooMany", "1", "version 1", "5"])
+        self.check_lines(shell, (
+            ("cells 6", "cells 6"), ("draws chain 1 1, 2 1, 1 2", "not exchangeable"), ("score c5", "rising"),
+            ("play", "begun"), ("worth", "error TooMany"), ("mean", "1/2"), ("length", "error Unfit"),
+            ("least", "error Unfit"), ("drawn A", "version 1"), ("best", "error TooMany"),
+            ("weighs 0", "error Unfit"), ("put 0", "version 2"), ("worth", "2/3"), ("drawn B", "version 3"),
+            ("best", "5"), ("draws coin 1 1", "exchangeable"), ("least", "error TooMany"), ("length", "1"),
+            ("play", "begun"), ("worth", "error TooMany"), ("weighs 5", "1"), ("drawn A", "version 1"), ("best", "5"),
+        ))
 
     def test_a_hundred_edits(self):
         shell = stage(("cells", "draws", "score", "game"))
         for place in range(100):
             self.assert_same(shell.say("rescore"), f"version {place + 1}")
-        self.check_lines(shell, ("rescore", "drawn A", "put 0", "undo", "drawn A", "put 7", "put 0", "undo", "undo", "rescore"),
-                         ["error TooManyEdits", "error TooManyEdits", "error Unfit", "version 99", "version 100", "error Unfit",
-                          "error TooManyEdits", "version 99", "version 98", "version 99"])
+        self.check_lines(shell, (
+            ("rescore", "error TooManyEdits"), ("drawn A", "error TooManyEdits"), ("put 0", "error Unfit"),
+            ("undo", "version 99"), ("drawn A", "version 100"), ("put 7", "error Unfit"),
+            ("put 0", "error TooManyEdits"), ("undo", "version 99"), ("undo", "version 98"), ("rescore", "version 99"),
+        ))
         self.assert_same(shell.say("log"), "score c0\n" * 99)
         for place in range(98, -1, -1):
             self.assert_same(shell.say("undo"), f"version {place}")
-        self.check_lines(shell, ("undo", "log", "play", "log"), ["error NothingToUndo", "", "begun", ""])
+        self.check_lines(shell, (("undo", "error NothingToUndo"), ("log", ""), ("play", "begun"), ("log", "")))
 
     def test_what_is_answered_by_errors_changes_nothing(self):
         chooser = random.Random(492)
@@ -260,7 +270,7 @@ class TestShells(Checks, unittest.TestCase):
             for _ in range(60):
                 ahead = dump(shell)
                 answer = shell.say(some_line(chooser, 3))
-                if answer == "what" or answer.startswith(("error ", "no ")):
+                if answer.startswith("error ") or answer in REFUSED:
                     self.assert_same(dump(shell), ahead)
                 if answer.startswith("cells"):
                     shell = stage(("cells", "draws", "score", "game"))
@@ -286,19 +296,20 @@ class TestShells(Checks, unittest.TestCase):
             lines += [some_line(chooser, 4, calm=True) for _ in range(50)]
             for line in lines:
                 answer = shell.say(line)
-                if answer == "what" or answer.startswith("error ") or answer in ("no cells", "no draws", "no score", "no game"):
+                if answer.startswith("error ") or answer in REFUSED:
                     continue
-                if line.startswith("cells "):
-                    begun, kept = [], []
                 if line.startswith(("cells", "draws", "score")) or line == "play":
                     kept.append(line)
                 if line == "play":
                     begun = list(kept)
+                if line.startswith("cells"):
+                    begun = []
             if not begun:
                 continue
             other = Shell()
             for line in begun:
-                self.assertNotIn(other.say(line)[:3], ("no ", "err", "wha"))
+                answer = other.say(line)
+                self.assertFalse(answer.startswith("error ") or answer in REFUSED)
             edits = shell.say("log").split("\n")[:-1]
             long += len(edits) > 3
             for line in edits:
